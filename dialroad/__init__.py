@@ -1,0 +1,1 @@
+"""Dialroad: programs for a blind walker on an endless road of dials."""
