@@ -13,3 +13,17 @@ def reciprocal(prime, value):
         if candidate * value % prime == 1:
             return candidate
     return None
+
+
+def common_divisor(one, other):
+    """The greatest common divisor of two positive integers, and a factor for the first one.
+
+    The factor times the first integer leaves the divisor modulo the second one.
+    """
+    divisor, rest = one, other
+    factor, following = 1, 0
+    while rest != 0:
+        quotient = divisor // rest
+        divisor, rest = rest, divisor - quotient * rest
+        factor, following = following, factor - quotient * following
+    return divisor, factor

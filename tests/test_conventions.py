@@ -7,6 +7,10 @@ import unittest
 
 from tests.samples import FAR, PRIMES, effect, polynomial
 
+PROGRAM = [("turn", 1), ("repeat", 3, [("step", 2), ("repeat", 2, [("turn", 1)]), ("repeat", 0, [])]), ("step", -1)]
+EFFECT = (((-1, 2), (2, 4)), 1)
+CERTIFICATE = ([(-1, 2), (2, 1)], [(-1, 0, 2), (0, 1, 1), (1, 2, 2)])
+
 # Each function of the interface with its file, its parameters, and arguments for a call.
 FUNCTIONS = (
     ("polynomials", "normalize", ("prime", "pairs"), (5, [(2, 7), (0, 3), (2, -2), (1, 5)])),
@@ -25,6 +29,21 @@ FUNCTIONS = (
     ("effects", "power", ("prime", "effect", "count"), (2, (((0, 1),), 1), 3)),
     ("effects", "order", ("prime", "effect"), (5, (((3, 1),), 0))),
     ("effects", "apply", ("prime", "effect", "dials", "place"), (3, (((0, 1), (2, 2)), 1), {5: 2, 4: 1}, 2)),
+    ("programs", "is_program", ("value",), ([("turn", 1), ("repeat", 3, [("step", 2), {"a": [1]}])],)),
+    ("programs", "shift_of", ("program",), (PROGRAM,)),
+    ("programs", "executed", ("program",), (PROGRAM,)),
+    ("programs", "effect_of", ("prime", "program"), (5, PROGRAM)),
+    ("far", "value_at", ("prime", "program", "place"), (5, PROGRAM, 2)),
+    ("far", "first_difference", ("prime", "one", "other"), (5, PROGRAM, [("repeat", 2, [("turn", 1), ("step", 2)])])),
+    ("far", "extent", ("prime", "program"), (5, PROGRAM)),
+    ("notation", "format_program", ("program",), (PROGRAM,)),
+    ("notation", "parse_program", ("text",), ("turn 1 repeat 3 [ step 2 turn 1 repeat 0 [ ] ]",)),
+    ("lengths", "length", ("prime", "effect"), (5, EFFECT)),
+    ("lengths", "shortest_program", ("prime", "effect"), (5, EFFECT)),
+    ("lengths", "length_certificate", ("prime", "effect"), (5, EFFECT)),
+    ("lengths", "certifies_length", ("prime", "effect", "bound", "value"), (5, EFFECT, 8, CERTIFICATE)),
+    ("lengths", "dead_end_depth", ("prime", "effect"), (2, (((-1, 1), (0, 1), (1, 1)), 0))),
+    ("lengths", "count_effects", ("prime", "size"), (2, 3)),
 )
 
 
@@ -85,6 +104,42 @@ class NothingIsModifiedTest(unittest.TestCase):
         self.assertEqual(result, ((1, 4), (3, 2)))
 
 
+class NewListsTest(unittest.TestCase):
+    def check(self, module, name, arguments, change):
+        function = function_called(module, name)
+        expected = shown(function(*arguments))
+        change(function(*arguments))
+        self.assertEqual(shown(function(*arguments)), expected)
+
+    def test_changing_a_list_that_was_returned_changes_nothing_else(self):
+        def empty_all(result):
+            for part in [result] if isinstance(result, list) else result:
+                part.clear()
+
+        def empty_inner(result):
+            result[0][2].clear()
+            result.append(("turn", 1))
+
+        self.check("notation", "parse_program", ("",), lambda result: result.append(("step", 1)))
+        self.check("notation", "parse_program", ("repeat 1 [ ]",), lambda result: result[0][2].append(("step", 1)))
+        self.check("notation", "parse_program", ("repeat 1 [ step 1 ] step 2",), empty_inner)
+        self.check("notation", "parse_program", ("step 1",), empty_all)
+        for one in (EFFECT, ((), 0), ((), -2)):
+            self.check("lengths", "shortest_program", (5, one), lambda result: result.append(("step", 1)))
+            self.check("lengths", "shortest_program", (5, one), empty_all)
+            self.check("lengths", "length_certificate", (5, one), empty_all)
+            self.check("lengths", "length_certificate", (5, one), lambda result: result[1].append((0, 1, 1)))
+
+    def test_the_parts_of_a_result_are_lists_of_their_own(self):
+        parse = function_called("notation", "parse_program")
+        found = parse("repeat 1 [ ] repeat 1 [ ]")
+        found[0][2].append(("step", 1))
+        self.assertEqual(found[1], ("repeat", 1, []))
+        turns, stretches = function_called("lengths", "length_certificate")(2, ((), 0))
+        turns.append((0, 1))
+        self.assertEqual(stretches, [])
+
+
 class KindsOfValuesTest(unittest.TestCase):
     def test_results_are_polynomials_and_effects_of_tuples(self):
         is_polynomial = function_called("polynomials", "is_polynomial")
@@ -96,12 +151,25 @@ class KindsOfValuesTest(unittest.TestCase):
                     self.assertIs(result, False)
                 elif module == "polynomials":
                     self.assertTrue(is_polynomial(arguments[0] if name != "move" else 3, result))
-                elif name not in ("order", "apply"):
+                elif module == "effects" and name not in ("order", "apply"):
                     self.assertTrue(is_effect(arguments[0], result))
 
     def test_apply_returns_a_tuple_of_a_dict_and_an_integer(self):
         result = function_called("effects", "apply")(5, (((0, 1),), 2), {3: 1}, FAR)
         self.assertEqual([type(result)] + [type(part) for part in result], [tuple, dict, int])
+
+    def test_results_of_programs_and_lengths(self):
+        kinds = {
+            "is_program": bool, "shift_of": int, "executed": int, "effect_of": tuple, "value_at": int,
+            "first_difference": tuple, "extent": tuple, "format_program": str, "parse_program": list, "length": int,
+            "shortest_program": list, "length_certificate": tuple, "certifies_length": bool, "dead_end_depth": int,
+            "count_effects": int,
+        }
+        for module, name, _, arguments in FUNCTIONS:
+            if name in kinds:
+                with self.subTest(name):
+                    self.assertIs(type(function_called(module, name)(*arguments)), kinds.pop(name))
+        self.assertEqual(kinds, {})
 
     def test_values_that_were_returned_may_be_passed_back(self):
         compose = function_called("effects", "compose")
@@ -110,6 +178,10 @@ class KindsOfValuesTest(unittest.TestCase):
         one = compose(97, (far, 2 * FAR), (far, 2 * FAR))
         back = function_called("effects", "inverse")(97, one)
         self.assertEqual(compose(97, one, back), ((), 0))
+        self.assertEqual(function_called("lengths", "dead_end_depth")(97, one), 1)
+        size = function_called("lengths", "length")(97, one)
+        certificate = function_called("lengths", "length_certificate")(97, one)
+        self.assertIs(function_called("lengths", "certifies_length")(97, one, size, certificate), True)
         dials, place = function_called("effects", "apply")(97, one, {}, FAR)
         self.assertEqual(function_called("effects", "apply")(97, back, dials, place), ({}, FAR))
 

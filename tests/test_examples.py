@@ -3,9 +3,14 @@
 import unittest
 
 from dialroad.effects import apply, compose, inverse, is_effect, order, power
-from dialroad.errors import DivisionByZero
+from dialroad.errors import DivisionByZero, InvalidText, TooLong
+from dialroad.far import extent, first_difference, value_at
+from dialroad.lengths import certifies_length, count_effects, dead_end_depth, length, length_certificate
+from dialroad.lengths import shortest_program
+from dialroad.notation import format_program, parse_program
 from dialroad.polynomials import add, divide, geometric, greatest_divisor, is_polynomial
 from dialroad.polynomials import move, multiply, normalize, scale, subtract
+from dialroad.programs import effect_of, executed, is_program, shift_of
 
 
 class PolynomialExamplesTest(unittest.TestCase):
@@ -62,6 +67,77 @@ class EffectExamplesTest(unittest.TestCase):
 
     def test_apply(self):
         self.assertEqual(apply(3, (((0, 1), (2, 2)), 1), {4: 1, 5: 2}, 2), ({2: 1, 5: 2}, 3))
+
+
+class ProgramExamplesTest(unittest.TestCase):
+    PROGRAM = [("turn", 1), ("repeat", 3, [("step", 2), ("turn", 1)])]
+
+    def test_is_program(self):
+        self.assertIs(is_program([("turn", 1), ("jump", 2)]), False)
+
+    def test_shift_of(self):
+        self.assertEqual(shift_of(self.PROGRAM), 6)
+
+    def test_executed(self):
+        self.assertEqual(executed(self.PROGRAM), 7)
+
+    def test_effect_of(self):
+        self.assertEqual(effect_of(5, self.PROGRAM), (((0, 1), (2, 1), (4, 1), (6, 1)), 6))
+        with self.assertRaises(TooLong) as caught:
+            effect_of(5, [("repeat", 10001, [("step", 1)])])
+        self.assertEqual(caught.exception.limit, 10000)
+
+
+class FarExamplesTest(unittest.TestCase):
+    def test_value_at(self):
+        self.assertEqual(value_at(7, [("repeat", 10 ** 30, [("turn", 2), ("step", 3)])], 3 * 10 ** 29), 2)
+
+    def test_first_difference(self):
+        one = [("repeat", 4, [("turn", 1), ("step", 1)])]
+        other = [("repeat", 2, [("turn", 1), ("step", 2)])]
+        self.assertEqual(first_difference(2, one, other), ("dial", 1, 1, 0))
+        self.assertEqual(first_difference(2, [("step", 1)], [("step", 2)]), ("shift", 1, 2))
+
+    def test_extent(self):
+        self.assertEqual(extent(3, [("repeat", 5, [("step", -2), ("turn", 1)])]), (-10, -2))
+
+
+class NotationExamplesTest(unittest.TestCase):
+    def test_format_program(self):
+        self.assertEqual(format_program([("turn", 1), ("repeat", 3, [("step", 2)])]), "turn 1 repeat 3 [ step 2 ]")
+
+    def test_parse_program(self):
+        self.assertEqual(parse_program("step -4 repeat 0 [ ]"), [("step", -4), ("repeat", 0, [])])
+        with self.assertRaises(InvalidText) as caught:
+            parse_program("step 1 turn 01")
+        self.assertEqual(caught.exception.position, 3)
+
+    def test_the_text_of_point_17(self):
+        program = [("turn", 1), ("repeat", 3, [("step", 2), ("turn", 1)])]
+        self.assertEqual(parse_program("turn 1 repeat 3 [ step 2 turn 1 ]"), program)
+
+
+class LengthExamplesTest(unittest.TestCase):
+    EFFECT = (((-1, 2), (2, 4)), 1)
+
+    def test_length(self):
+        self.assertEqual(length(5, self.EFFECT), 8)
+
+    def test_shortest_program(self):
+        self.assertEqual(shortest_program(5, ((), -2)), [("step", -1), ("step", -1)])
+
+    def test_length_certificate(self):
+        self.assertIs(certifies_length(5, self.EFFECT, 8, length_certificate(5, self.EFFECT)), True)
+
+    def test_certifies_length(self):
+        certificate = ([(-1, 2), (2, 1)], [(-1, 0, 2), (0, 1, 1), (1, 2, 2)])
+        self.assertIs(certifies_length(5, self.EFFECT, 8, certificate), True)
+
+    def test_dead_end_depth(self):
+        self.assertEqual(dead_end_depth(2, (((-1, 1), (0, 1), (1, 1)), 0)), 3)
+
+    def test_count_effects(self):
+        self.assertEqual(count_effects(2, 1), 3)
 
 
 if __name__ == "__main__":

@@ -151,7 +151,40 @@ class NamesTest(unittest.TestCase):
                 self.assertIn(node.func.attr, METHODS | own, where)
 
 
+    def test_no_variable_has_the_name_of_a_class_or_an_import_of_its_file(self):
+        for name, tree in trees().items():
+            taken = {node.name for node in tree.body if isinstance(node, ast.ClassDef)}
+            for node in tree.body:
+                if isinstance(node, ast.ImportFrom):
+                    taken |= {alias.asname or alias.name for alias in node.names}
+            for node in ast.walk(tree):
+                if isinstance(node, ast.arg):
+                    self.assertNotIn(node.arg, taken, f"{name}.py:{node.lineno}")
+                if isinstance(node, ast.Name) and not isinstance(node.ctx, ast.Load):
+                    self.assertNotIn(node.id, taken, f"{name}.py:{node.lineno}")
+
+    def test_no_name_is_a_method_and_an_attribute(self):
+        parts = [part for _, node in nodes(ast.ClassDef) for part in node.body]
+        methods = {part.name for part in parts if isinstance(part, ast.FunctionDef)}
+        assigned = {node.attr for _, node in nodes(ast.Attribute) if not isinstance(node.ctx, ast.Load)}
+        self.assertEqual(methods & assigned, set())
+        for where, node in nodes(ast.Attribute):
+            self.assertIn(node.attr, assigned | methods | METHODS, where)
+
+
 class ExpressionsTest(unittest.TestCase):
+    def test_sums_and_tests_take_lists(self):
+        # Generator expressions must go once a class of the package has an __eq__.
+        self.assertEqual([where for where, _ in nodes((ast.GeneratorExp, ast.Yield, ast.YieldFrom))], [])
+
+    def test_ranges_and_the_like_are_iterated_at_once(self):
+        for where, node in nodes((ast.Assign, ast.Return)):
+            value = node.value
+            if isinstance(value, ast.Call) and isinstance(value.func, ast.Name):
+                self.assertNotIn(value.func.id, ("range", "zip", "enumerate", "reversed", "set", "iter"), where)
+            if isinstance(value, ast.Call) and isinstance(value.func, ast.Attribute):
+                self.assertNotIn(value.func.attr, ("items", "keys", "values"), where)
+
     def test_statements_that_are_not_allowed(self):
         kinds = (ast.Global, ast.AsyncFunctionDef, ast.AsyncFor, ast.AsyncWith, ast.Await, ast.Div, ast.MatMult)
         self.assertEqual([where for where, _ in nodes(kinds)], [])
