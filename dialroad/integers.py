@@ -16,7 +16,7 @@ def reciprocal(prime, value):
 
 
 def common_divisor(one, other):
-    """The greatest common divisor of two positive integers, and a factor for the first one.
+    """The greatest common divisor of a positive integer and one from 0, and a factor for the first one.
 
     The factor times the first integer leaves the divisor modulo the second one.
     """

@@ -73,6 +73,21 @@ def geometric(prime, count, stride):
     return normalize(prime, [(k * stride, 1) for k in range(count)])
 
 
+def one_less(prime, exponent):
+    """The polynomial 1 - t ** exponent, which is zero for the exponent 0."""
+    return normalize(prime, ((0, 1), (exponent, -1)))
+
+
+def wrapped(prime, polynomial, size):
+    """The polynomial with every exponent replaced by its remainder modulo the size; the same one for the size 0.
+
+    It is zero exactly if 1 - t ** size divides the polynomial.
+    """
+    if size == 0:
+        return polynomial
+    return normalize(prime, [(exponent % size, coefficient) for exponent, coefficient in polynomial])
+
+
 def from_zero(polynomial):
     """The polynomial moved so that its least exponent is 0; the zero polynomial as it is."""
     if not polynomial:
@@ -81,27 +96,29 @@ def from_zero(polynomial):
 
 
 def divide_with_rest(prime, one, other):
-    """The quotient and the rest of two polynomials without negative exponents.
+    """The quotient, which has no negative exponents, and the rest.
 
     All exponents of the rest are below the greatest exponent of the other polynomial.
     """
     degree, leading = other[-1]
     unit = reciprocal(prime, leading)
     quotient = {}
-    rest = dict(one)
-    while rest:
-        top = max(rest)
-        if top < degree:
-            break
+    # What is below the degree is never looked through again, however much it becomes.
+    rest = {exponent: coefficient for exponent, coefficient in one if exponent < degree}
+    above = {exponent: coefficient for exponent, coefficient in one if exponent >= degree}
+    while above:
+        top = max(above)
         distance = top - degree
-        factor = rest[top] * unit % prime
+        factor = above[top] * unit % prime
         quotient[distance] = factor
         for exponent, coefficient in other:
-            left = (rest.get(exponent + distance, 0) - factor * coefficient) % prime
+            place = exponent + distance
+            sums = above if place >= degree else rest
+            left = (sums.get(place, 0) - factor * coefficient) % prime
             if left == 0:
-                del rest[exponent + distance]
+                del sums[place]
             else:
-                rest[exponent + distance] = left
+                sums[place] = left
     return from_sums(prime, quotient), from_sums(prime, rest)
 
 
@@ -116,6 +133,16 @@ def divide(prime, one, other):
     if rest:
         return None
     return move(quotient, one[0][0] - other[0][0])
+
+
+def divide_by_one_less(prime, polynomial, exponent):
+    """The polynomial whose product with 1 - t ** exponent is the given one, or None; zero by zero is zero."""
+    # Most polynomials have no such quotient, and this tells without dividing.
+    if wrapped(prime, polynomial, abs(exponent)):
+        return None
+    if exponent == 0:
+        return ()
+    return divide(prime, polynomial, one_less(prime, exponent))
 
 
 def greatest_divisor(prime, one, other):

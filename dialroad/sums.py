@@ -6,7 +6,7 @@ the sum of t ** (k * a) for k from 0 to n - 1.
 """
 
 from dialroad.integers import common_divisor
-from dialroad.polynomials import add, multiply, normalize
+from dialroad.polynomials import add, multiply, normalize, one_less
 from dialroad.programs import shift_of
 
 
@@ -91,11 +91,6 @@ def strides_of(groups):
         for stride in strides:
             most[stride] = max(most.get(stride, 0), strides.count(stride))
     return [stride for stride in most for k in range(most[stride])]
-
-
-def one_less(prime, exponent):
-    """The polynomial 1 - t ** exponent, for an exponent from 1."""
-    return ((0, 1), (exponent, prime - 1))
 
 
 def without_rounds(prime, groups, strides):

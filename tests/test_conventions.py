@@ -44,6 +44,38 @@ FUNCTIONS = (
     ("lengths", "certifies_length", ("prime", "effect", "bound", "value"), (5, EFFECT, 8, CERTIFICATE)),
     ("lengths", "dead_end_depth", ("prime", "effect"), (2, (((-1, 1), (0, 1), (1, 1)), 0))),
     ("lengths", "count_effects", ("prime", "size"), (2, 3)),
+    ("conjugacy", "conjugator", ("prime", "one", "other"), (3, (((0, 1),), 2), (((-1, 1), (0, 2), (2, 1)), 2))),
+    ("conjugacy", "conjugacy_name", ("prime", "effect"), (3, (((0, 1), (4, 2)), 3))),
+    ("roots", "commute", ("prime", "one", "other"), (2, (((0, 1),), 1), (((0, 1), (1, 1)), 2))),
+    ("roots", "root", ("prime", "effect"), (2, (((0, 1), (1, 1)), 2))),
+    ("roots", "nth_root", ("prime", "effect", "count"), (3, (((0, 2),), 0), 2)),
+)
+
+GENERATORS = [(((0, 1), (1, 1)), 0), ((), 2)]
+MEMBER = (((2, 1), (3, 1)), 4)
+STRANGER = (((0, 1),), 0)
+
+
+def another_set():
+    return function_called("sets", "Effects")(2, [((), 2), (((0, 1),), 0)])
+
+
+# Each class of the interface with its file, its parameters, arguments for an object, and its methods with their
+# parameters and with arguments for calls. A function among the arguments is called for an object to pass.
+CLASSES = (
+    ("sets", "Effects", ("prime", "generators"), (2, GENERATORS), (
+        ("generators", (), ()),
+        ("stride", (), ()),
+        ("translation", (), ()),
+        ("basis", (), ()),
+        ("contains", ("effect",), (MEMBER,)),
+        ("certificate", ("effect",), (MEMBER,)),
+        ("certificate", ("effect",), (STRANGER,)),
+        ("checks", ("effect", "value"), (MEMBER, ("recipe", [0, 1], 2, [((2, 1),), ()]))),
+        ("checks", ("effect", "value"), (STRANGER, ("barrier", 2, ((), 2), [((0, 1), (1, 1))]))),
+        ("cosets", (), ()),
+        ("is_within", ("other",), (another_set,)),
+    )),
 )
 
 
@@ -75,6 +107,88 @@ class InterfaceTest(unittest.TestCase):
                 self.assertEqual(shown(function(**backwards)), shown(by_position))
                 mixed = function(arguments[0], **dict(zip(parameters[1:], arguments[1:])))
                 self.assertEqual(shown(mixed), shown(by_position))
+
+
+def class_called(module, name):
+    return function_called(module, name)
+
+
+def made(arguments):
+    """The arguments of a call, with new objects in the places of functions that make them."""
+    return tuple(part() if callable(part) else part for part in copy.deepcopy(arguments))
+
+
+def called(thing, method, arguments):
+    """What a method of an object returns."""
+    return getattr(thing, method)(*made(arguments))
+
+
+def calls():
+    """Each class with the arguments of an object, and each of its methods with the arguments of a call."""
+    for module, name, _, arguments, methods in CLASSES:
+        for method, parameters, inner in methods:
+            yield class_called(module, name), arguments, method, parameters, inner
+
+
+class ClassesTest(unittest.TestCase):
+    def test_classes_are_defined_in_their_files_with_these_parameters(self):
+        for module, name, parameters, _, methods in CLASSES:
+            one = class_called(module, name)
+            self.assertTrue(inspect.isclass(one))
+            self.assertEqual(one.__module__, "dialroad." + module)
+            self.assertEqual(tuple(inspect.signature(one).parameters), parameters)
+            for method, inner, _ in methods:
+                with self.subTest(name + "." + method):
+                    self.assertTrue(inspect.isfunction(vars(one)[method]))
+                    self.assertEqual(tuple(inspect.signature(vars(one)[method]).parameters), ("self", *inner))
+
+    def test_arguments_by_name(self):
+        for module, name, parameters, arguments, _ in CLASSES:
+            one = class_called(module, name)
+            by_name = one(**dict(list(zip(parameters, made(arguments)))[::-1]))
+            self.assertTrue(by_name == one(*made(arguments)) or "__eq__" not in vars(one))
+        for one, arguments, method, parameters, inner in calls():
+            with self.subTest(method):
+                by_position = shown(called(one(*made(arguments)), method, inner))
+                named = dict(list(zip(parameters, made(inner)))[::-1])
+                self.assertEqual(shown(getattr(one(*made(arguments)), method)(**named)), by_position)
+
+    def test_arguments_stay_as_they_were(self):
+        for one, arguments, method, _, inner in calls():
+            with self.subTest(method):
+                outer, given = made(arguments), made(inner)
+                getattr(one(*outer), method)(*given)
+                self.assertEqual(shown(outer), shown(made(arguments)))
+                for before, after in zip(made(inner), given):
+                    self.assertEqual(before, after)
+
+    def test_equal_objects_return_equal_results(self):
+        for module, name, _, arguments, methods in CLASSES:
+            one, other = class_called(module, name)(*made(arguments)), class_called(module, name)(*made(arguments))
+            for method, _, inner in methods:
+                with self.subTest(name + "." + method):
+                    self.assertEqual(shown(called(one, method, inner)), shown(called(other, method, inner)))
+
+    def test_lists_that_were_passed_or_returned_may_be_changed(self):
+        for module, name, _, arguments, methods in CLASSES:
+            outer = made(arguments)
+            one, other = class_called(module, name)(*outer), class_called(module, name)(*made(arguments))
+            for part in outer:
+                emptied(part)
+            for method, _, inner in methods:
+                emptied(called(one, method, inner))
+            for method, _, inner in methods:
+                with self.subTest(name + "." + method):
+                    self.assertEqual(shown(called(one, method, inner)), shown(called(other, method, inner)))
+
+
+def emptied(value):
+    """Empties all lists and dicts within a value."""
+    if isinstance(value, (list, tuple)):
+        for part in value:
+            emptied(part)
+    if isinstance(value, (list, dict)):
+        value.clear()
 
 
 class NothingIsModifiedTest(unittest.TestCase):
@@ -158,12 +272,13 @@ class KindsOfValuesTest(unittest.TestCase):
         result = function_called("effects", "apply")(5, (((0, 1),), 2), {3: 1}, FAR)
         self.assertEqual([type(result)] + [type(part) for part in result], [tuple, dict, int])
 
-    def test_results_of_programs_and_lengths(self):
+    def test_results_of_other_functions(self):
         kinds = {
             "is_program": bool, "shift_of": int, "executed": int, "effect_of": tuple, "value_at": int,
             "first_difference": tuple, "extent": tuple, "format_program": str, "parse_program": list, "length": int,
             "shortest_program": list, "length_certificate": tuple, "certifies_length": bool, "dead_end_depth": int,
-            "count_effects": int,
+            "count_effects": int, "conjugator": tuple, "conjugacy_name": tuple, "commute": bool, "root": tuple,
+            "nth_root": tuple,
         }
         for module, name, _, arguments in FUNCTIONS:
             if name in kinds:

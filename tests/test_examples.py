@@ -2,8 +2,9 @@
 
 import unittest
 
+from dialroad.conjugacy import conjugacy_name, conjugator
 from dialroad.effects import apply, compose, inverse, is_effect, order, power
-from dialroad.errors import DivisionByZero, InvalidText, TooLong
+from dialroad.errors import DivisionByZero, InvalidText, ShiftIsZero, TooLong
 from dialroad.far import extent, first_difference, value_at
 from dialroad.lengths import certifies_length, count_effects, dead_end_depth, length, length_certificate
 from dialroad.lengths import shortest_program
@@ -11,6 +12,8 @@ from dialroad.notation import format_program, parse_program
 from dialroad.polynomials import add, divide, geometric, greatest_divisor, is_polynomial
 from dialroad.polynomials import move, multiply, normalize, scale, subtract
 from dialroad.programs import effect_of, executed, is_program, shift_of
+from dialroad.roots import commute, nth_root, root
+from dialroad.sets import Effects
 
 
 class PolynomialExamplesTest(unittest.TestCase):
@@ -138,6 +141,57 @@ class LengthExamplesTest(unittest.TestCase):
 
     def test_count_effects(self):
         self.assertEqual(count_effects(2, 1), 3)
+
+
+class ConjugacyExamplesTest(unittest.TestCase):
+    def test_conjugator(self):
+        self.assertIsNone(conjugator(2, (((0, 1),), 2), (((1, 1),), 4)))
+        one, other = (((0, 1),), 0), (((4, 1),), 0)
+        x = conjugator(3, one, other)
+        self.assertEqual(compose(3, compose(3, inverse(3, x), one), x), other)
+
+    def test_conjugacy_name(self):
+        self.assertEqual(conjugacy_name(3, (((0, 1), (4, 2)), 3)), (((0, 1), (1, 2)), 3))
+
+
+class RootExamplesTest(unittest.TestCase):
+    def test_commute(self):
+        self.assertIs(commute(2, (((0, 1),), 1), (((0, 1), (1, 1)), 2)), True)
+
+    def test_root(self):
+        self.assertEqual(root(2, (((0, 1), (1, 1)), 2)), ((((0, 1),), 1), 2))
+        with self.assertRaises(ShiftIsZero):
+            root(2, (((0, 1),), 0))
+
+    def test_nth_root(self):
+        self.assertEqual(nth_root(3, (((0, 2),), 0), 2), (((0, 1),), 0))
+
+
+class SetExamplesTest(unittest.TestCase):
+    def setUp(self):
+        self.some = Effects(2, [(((0, 1), (1, 1)), 0), ((), 2)])
+
+    def test_basis(self):
+        self.assertEqual(self.some.basis(), [((0, 1), (1, 1))])
+
+    def test_stride_and_translation(self):
+        self.assertEqual((self.some.stride(), self.some.translation()), (2, ((), 2)))
+
+    def test_contains(self):
+        self.assertIs(self.some.contains((((2, 1), (3, 1)), 4)), True)
+
+    def test_checks(self):
+        recipe = ("recipe", [0, 1], 2, [((2, 1),), ()])
+        self.assertIs(self.some.checks((((2, 1), (3, 1)), 4), recipe), True)
+
+    def test_certificate(self):
+        self.assertIs(self.some.checks((((0, 1),), 0), self.some.certificate((((0, 1),), 0))), True)
+
+    def test_cosets(self):
+        self.assertEqual(Effects(2, [(((0, 1), (1, 1)), 0), ((), 1)]).cosets(), 2)
+
+    def test_is_within(self):
+        self.assertIs(Effects(2, [((), 4)]).is_within(Effects(2, [((), 2)])), True)
 
 
 if __name__ == "__main__":
