@@ -1,5 +1,7 @@
 """Integers, and integers modulo a prime: what the other modules share."""
 
+PRIMES = (2, 3, 5, 7, 11, 13, 17, 19, 23, 29, 31, 37, 41, 43, 47, 53, 59, 61, 67, 71, 73, 79, 83, 89, 97)
+
 
 def is_whole(value):
     """Whether any value is an integer; True and False are none."""

@@ -58,6 +58,14 @@ def multiply(prime, one, other):
     return from_sums(prime, sums)
 
 
+def sum_of_products(prime, polynomials, factors):
+    """The sum of the products of polynomials and their factors."""
+    total = ()
+    for polynomial, factor in zip(polynomials, factors):
+        total = add(prime, total, multiply(prime, polynomial, factor))
+    return total
+
+
 def scale(prime, polynomial, factor):
     """The polynomial with every coefficient multiplied by an integer."""
     return normalize(prime, [(exponent, coefficient * factor) for exponent, coefficient in polynomial])

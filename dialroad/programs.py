@@ -59,6 +59,17 @@ def is_program(value):
     return sizes_of(value, DEEPEST) is not None
 
 
+def copied(program):
+    """A copy of a program, with lists where it has lists and tuples where it has tuples."""
+    rows = [row if row[0] != "repeat" else (row[0], row[1], copied(row[2])) for row in program]
+    return rows if isinstance(program, list) else tuple(rows)
+
+
+def with_lists(program):
+    """A copy of a program with lists for all programs in it."""
+    return [row if row[0] != "repeat" else (row[0], row[1], with_lists(row[2])) for row in program]
+
+
 def shift_of(program):
     """The shift of the program's effect."""
     shift = 0

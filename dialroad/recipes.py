@@ -3,7 +3,7 @@
 from dialroad.bases import rounds_of
 from dialroad.effects import compose, power
 from dialroad.integers import common_divisor, is_whole
-from dialroad.polynomials import add, is_polynomial, multiply
+from dialroad.polynomials import is_polynomial, sum_of_products
 
 GREATEST_POWER = 200
 GREATEST_COUNT = 100
@@ -52,11 +52,19 @@ def without_shifts(prime, effects, step):
     return [compose(prime, effect, power(prime, step, -rounds_of(effect[1], step[1])))[0] for effect in effects]
 
 
-def are_whole(value, size, greatest):
-    """Whether any value is a list of this many integers, none of them farther from 0 than the greatest."""
-    if not isinstance(value, list) or len(value) != size:
-        return False
-    return all([is_whole(part) and abs(part) <= greatest for part in value])
+def is_list_of(size, value):
+    """Whether any value is a list with this many entries."""
+    return isinstance(value, list) and len(value) == size
+
+
+def is_near(value, farthest):
+    """Whether any value is an integer that is no farther from 0 than the farthest one."""
+    return is_whole(value) and abs(value) <= farthest
+
+
+def are_powers(value, size):
+    """Whether any value is a list of this many powers."""
+    return is_list_of(size, value) and all([is_near(part, GREATEST_POWER) for part in value])
 
 
 def is_factor(prime, stride, value):
@@ -68,9 +76,7 @@ def is_factor(prime, stride, value):
 
 def are_factors(prime, stride, value, size):
     """Whether any value is a list of this many factors."""
-    if not isinstance(value, list) or len(value) != size:
-        return False
-    return all([is_factor(prime, stride, part) for part in value])
+    return is_list_of(size, value) and all([is_factor(prime, stride, part) for part in value])
 
 
 def is_recipe(prime, effects, effect, value):
@@ -79,7 +85,7 @@ def is_recipe(prime, effects, effect, value):
         return False
     word, powers, count, factors = value
     stride = stride_of(effects)
-    if not are_whole(powers, len(effects), GREATEST_POWER) or not are_whole([count], 1, GREATEST_COUNT):
+    if not are_powers(powers, len(effects)) or not is_near(count, GREATEST_COUNT):
         return False
     if not are_factors(prime, stride, factors, len(effects)):
         return False
@@ -88,7 +94,5 @@ def is_recipe(prime, effects, effect, value):
     step = composed(prime, effects, powers)
     if step[1] != stride:
         return False
-    total = ()
-    for factor, polynomial in zip(factors, without_shifts(prime, effects, step)):
-        total = add(prime, total, multiply(prime, factor, polynomial))
+    total = sum_of_products(prime, without_shifts(prime, effects, step), factors)
     return compose(prime, (total, 0), power(prime, step, count)) == effect

@@ -6,8 +6,9 @@ the sum of t ** (k * a) for k from 0 to n - 1.
 """
 
 from dialroad.integers import common_divisor
-from dialroad.polynomials import add, multiply, normalize, one_less
 from dialroad.programs import shift_of
+
+PLACES_TO_TRY = 30
 
 
 def repeated(term, count, stride):
@@ -60,12 +61,14 @@ def pairs_at(one, other, distance):
 
 def ways_at(rounds, distance):
     """The coefficient of t ** distance in the product of S(count, stride) over all rounds."""
+    if not rounds:
+        return 1 if distance == 0 else 0
     if len(rounds) > 2:
         # Only a program of depth 3 or more, which is not valid, has such a term: its shortest round is written out.
         count, stride = rounds[0]
         return sum([ways_at(rounds[1:], distance - k * stride) for k in range(count)])
     # S(1, 1) is 1, so it may stand for a round that is not there.
-    one, other = (rounds + ((1, 1), (1, 1)))[:2]
+    one, other = (rounds + ((1, 1),))[:2]
     return pairs_at(one, other, distance)
 
 
@@ -74,13 +77,24 @@ def value_of(prime, terms, place):
     return sum([coefficient * ways_at(rounds, place - start) for start, coefficient, rounds in terms]) % prime
 
 
+def without_zeros(prime, groups):
+    """The groups with coefficients modulo the prime, without those that are 0 and without groups that are empty."""
+    found = {}
+    for rounds in groups:
+        sums = groups[rounds]
+        left = {place: sums[place] % prime for place in sums if sums[place] % prime != 0}
+        if left:
+            found[rounds] = left
+    return found
+
+
 def grouped(prime, terms):
-    """A dict from rounds to the polynomials that are multiplied by them, without those that are zero."""
-    pairs = {}
+    """A dict from rounds to what is multiplied by them: dicts from places to coefficients that are not 0."""
+    groups = {}
     for place, coefficient, rounds in terms:
-        pairs.setdefault(rounds, []).append((place, coefficient))
-    groups = {rounds: normalize(prime, pairs[rounds]) for rounds in pairs}
-    return {rounds: groups[rounds] for rounds in groups if groups[rounds]}
+        sums = groups.setdefault(rounds, {})
+        sums[place] = sums.get(place, 0) + coefficient
+    return without_zeros(prime, groups)
 
 
 def strides_of(groups):
@@ -93,28 +107,44 @@ def strides_of(groups):
     return [stride for stride in most for k in range(most[stride])]
 
 
-def without_rounds(prime, groups, strides):
-    """The sum of the groups, multiplied by 1 - t ** stride for each stride: a polynomial with few terms."""
-    total = ()
+def without_stride(prime, groups, stride):
+    """The groups multiplied by 1 - t ** stride, with one round of this stride less where there is one."""
+    found = {}
     for rounds in groups:
-        product = groups[rounds]
-        others = list(strides)
-        for count, stride in rounds:
-            # (1 - t ** a) * S(n, a) is 1 - t ** (n * a).
-            product = multiply(prime, product, one_less(prime, count * stride))
-            others.remove(stride)
-        for stride in others:
-            product = multiply(prime, product, one_less(prime, stride))
-        total = add(prime, total, product)
-    return total
+        places = stride
+        others = list(rounds)
+        for count, pace in rounds:
+            if pace == stride:
+                # (1 - t ** a) * S(n, a) is 1 - t ** (n * a).
+                places = count * stride
+                others.remove((count, pace))
+                break
+        sums = found.setdefault(tuple(others), {})
+        for place, coefficient in groups[rounds].items():
+            sums[place] = sums.get(place, 0) + coefficient
+            sums[place + places] = sums.get(place + places, 0) - coefficient
+    return without_zeros(prime, found)
 
 
 def extremes(prime, terms):
     """The least and the greatest place where a sum of terms is not 0, as a tuple, or None if there is none."""
     groups = grouped(prime, terms)
     strides = strides_of(groups)
-    product = without_rounds(prime, groups, strides)
-    if not product:
+    # The product with all 1 - t ** stride has few terms, however many places the rounds stand for.
+    for stride in strides:
+        groups = without_stride(prime, groups, stride)
+    if not groups:
         return None
     # Each factor 1 - t ** stride keeps the least exponent and adds its stride to the greatest one.
-    return (product[0][0], product[-1][0] - sum(strides))
+    return (min(groups[()]), max(groups[()]) - sum(strides))
+
+
+def is_zero(prime, terms):
+    """Whether a sum of terms is 0 at all places."""
+    groups = grouped(prime, terms)
+    left = [(place, sums[place], rounds) for rounds, sums in groups.items() for place in sums]
+    # If terms do not cancel, this is almost always seen where the first of them stand, without the long product.
+    for place in sorted([term[0] for term in left])[:PLACES_TO_TRY]:
+        if value_of(prime, left, place) != 0:
+            return False
+    return extremes(prime, left) is None

@@ -49,6 +49,11 @@ FUNCTIONS = (
     ("roots", "commute", ("prime", "one", "other"), (2, (((0, 1),), 1), (((0, 1), (1, 1)), 2))),
     ("roots", "root", ("prime", "effect"), (2, (((0, 1), (1, 1)), 2))),
     ("roots", "nth_root", ("prime", "effect", "count"), (3, (((0, 2),), 0), 2)),
+    ("walkers", "least_steps", ("tasks", "marked"), ([(0, 3), (10, 10)], [5, 12, 6])),
+    ("walkers", "plan", ("tasks", "marked"), ([(3, 0), (10, 10)], [5, 12, 6])),
+    ("walkers", "plan_steps", ("tasks", "marked", "value"), ([(0, 1)], [2], [[0, 2, 1]])),
+    ("walkers", "unused", ("tasks", "marked"), ([(10, 10), (0, 3)], [5, 12, 6])),
+    ("storage", "load", ("text",), ("prime 5\nenter ann 2\nrun ann turn 3 step 1",)),
 )
 
 GENERATORS = [(((0, 1), (1, 1)), 0), ((), 2)]
@@ -60,10 +65,44 @@ def another_set():
     return function_called("sets", "Effects")(2, [((), 2), (((0, 1),), 0)])
 
 
-# Each class of the interface with its file, its parameters, arguments for an object, and its methods with their
-# parameters and with arguments for calls. A function among the arguments is called for an object to pass.
+def nothing(thing):
+    """Some objects are ready as soon as they are created."""
+
+
+def travelled(road):
+    """A road on which there is something to show, to undo and to redo."""
+    road.enter("bob", 2)
+    road.enter("ann", -1)
+    road.run("ann", PROGRAM)
+    road.run("bob", (("repeat", 2, [("turn", 1), ("step", 1)]),))
+    road.run("ann", [("turn", 1)])
+    road.undo()
+
+
+# Each class of the interface with its file, its parameters, arguments for an object, what makes the object ready, and
+# its methods with their parameters and with arguments for calls. A function among the arguments is called for an
+# object to pass.
 CLASSES = (
-    ("sets", "Effects", ("prime", "generators"), (2, GENERATORS), (
+    ("rules", "Rules", ("prime", "effects"), (2, [((), 2)]), nothing, (
+        ("same", ("one", "other"), ((((0, 1),), 1), (((2, 1),), 3))),
+        ("classes", (), ()),
+        ("certificate", ("effect",), ((((0, 1), (2, 1)), 4),)),
+        ("certificate", ("effect",), ((((0, 1),), 4),)),
+        ("checks", ("effect", "value"), ((((0, 1), (2, 1)), 4), ([2], [((0, 1),)], [()]))),
+    )),
+    ("road", "Road", ("prime",), (5,), travelled, (
+        ("enter", ("name", "place"), ("cid", 4)),
+        ("run", ("name", "program"), ("ann", [("repeat", 2, [("turn", 1), ("step", 1)])])),
+        ("dial", ("place", "moment"), (1, 3)),
+        ("dial", ("place", "moment"), (1,)),
+        ("places", ("moment",), (1,)),
+        ("places", ("moment",), ()),
+        ("undo", (), ()),
+        ("redo", (), ()),
+        ("actions", (), ()),
+        ("same_dials", ("one", "other"), (1, 3)),
+    )),
+    ("sets", "Effects", ("prime", "generators"), (2, GENERATORS), nothing, (
         ("generators", (), ()),
         ("stride", (), ()),
         ("translation", (), ()),
@@ -85,6 +124,8 @@ def function_called(module, name):
 
 def shown(value):
     """A text that tells apart what == does not: lists and tuples, True and 1, and the order of a dict."""
+    if isinstance(value, function_called("road", "Road")):
+        return "road " + repr((value.actions(), value.places()))
     return repr(value)
 
 
@@ -113,26 +154,37 @@ def class_called(module, name):
     return function_called(module, name)
 
 
-def made(arguments):
+def copies(arguments):
     """The arguments of a call, with new objects in the places of functions that make them."""
     return tuple(part() if callable(part) else part for part in copy.deepcopy(arguments))
 
 
 def called(thing, method, arguments):
     """What a method of an object returns."""
-    return getattr(thing, method)(*made(arguments))
+    return getattr(thing, method)(*copies(arguments))
+
+
+def makers():
+    """Each class with its name, a function that makes an object of arguments, the arguments and the methods."""
+    for module, name, parameters, arguments, prepare, methods in CLASSES:
+        def make(*given, module=module, name=name, prepare=prepare, **named):
+            thing = class_called(module, name)(*given, **named)
+            prepare(thing)
+            return thing
+
+        yield name, make, parameters, arguments, methods
 
 
 def calls():
-    """Each class with the arguments of an object, and each of its methods with the arguments of a call."""
-    for module, name, _, arguments, methods in CLASSES:
+    """Each method of each class: how to make an object, and the arguments of a call with their names."""
+    for name, make, _, arguments, methods in makers():
         for method, parameters, inner in methods:
-            yield class_called(module, name), arguments, method, parameters, inner
+            yield name + "." + method, lambda: make(*copies(arguments)), method, parameters, inner
 
 
 class ClassesTest(unittest.TestCase):
     def test_classes_are_defined_in_their_files_with_these_parameters(self):
-        for module, name, parameters, _, methods in CLASSES:
+        for module, name, parameters, _, _, methods in CLASSES:
             one = class_called(module, name)
             self.assertTrue(inspect.isclass(one))
             self.assertEqual(one.__module__, "dialroad." + module)
@@ -143,43 +195,59 @@ class ClassesTest(unittest.TestCase):
                     self.assertEqual(tuple(inspect.signature(vars(one)[method]).parameters), ("self", *inner))
 
     def test_arguments_by_name(self):
-        for module, name, parameters, arguments, _ in CLASSES:
-            one = class_called(module, name)
-            by_name = one(**dict(list(zip(parameters, made(arguments)))[::-1]))
-            self.assertTrue(by_name == one(*made(arguments)) or "__eq__" not in vars(one))
-        for one, arguments, method, parameters, inner in calls():
-            with self.subTest(method):
-                by_position = shown(called(one(*made(arguments)), method, inner))
-                named = dict(list(zip(parameters, made(inner)))[::-1])
-                self.assertEqual(shown(getattr(one(*made(arguments)), method)(**named)), by_position)
+        for name, make, parameters, arguments, methods in makers():
+            by_name = make(**dict(list(zip(parameters, copies(arguments)))[::-1]))
+            by_position = make(*copies(arguments))
+            for method, _, inner in methods:
+                self.assertEqual(shown(called(by_name, method, inner)), shown(called(by_position, method, inner)))
+        for name, make, method, parameters, inner in calls():
+            with self.subTest(name):
+                named = dict(list(zip(parameters, copies(inner)))[::-1])
+                self.assertEqual(shown(getattr(make(), method)(**named)), shown(called(make(), method, inner)))
 
     def test_arguments_stay_as_they_were(self):
-        for one, arguments, method, _, inner in calls():
-            with self.subTest(method):
-                outer, given = made(arguments), made(inner)
-                getattr(one(*outer), method)(*given)
-                self.assertEqual(shown(outer), shown(made(arguments)))
-                for before, after in zip(made(inner), given):
+        for _, make, _, arguments, _ in makers():
+            outer = copies(arguments)
+            make(*outer)
+            self.assertEqual(shown(outer), shown(copies(arguments)))
+        for name, make, method, _, inner in calls():
+            with self.subTest(name):
+                given = copies(inner)
+                getattr(make(), method)(*given)
+                for before, after in zip(copies(inner), given):
                     self.assertEqual(before, after)
 
     def test_equal_objects_return_equal_results(self):
-        for module, name, _, arguments, methods in CLASSES:
-            one, other = class_called(module, name)(*made(arguments)), class_called(module, name)(*made(arguments))
+        for name, make, _, arguments, methods in makers():
+            one, other = make(*copies(arguments)), make(*copies(arguments))
             for method, _, inner in methods:
                 with self.subTest(name + "." + method):
                     self.assertEqual(shown(called(one, method, inner)), shown(called(other, method, inner)))
 
     def test_lists_that_were_passed_or_returned_may_be_changed(self):
-        for module, name, _, arguments, methods in CLASSES:
-            outer = made(arguments)
-            one, other = class_called(module, name)(*outer), class_called(module, name)(*made(arguments))
-            for part in outer:
-                emptied(part)
+        for name, make, _, arguments, methods in makers():
+            outer = copies(arguments)
+            one, other = make(*outer), make(*copies(arguments))
+            emptied(outer)
             for method, _, inner in methods:
-                emptied(called(one, method, inner))
+                if method not in ("enter", "run"):
+                    given = copies(inner)
+                    emptied(getattr(one, method)(*given))
+                    emptied(given)
+                    called(other, method, inner)
             for method, _, inner in methods:
                 with self.subTest(name + "." + method):
                     self.assertEqual(shown(called(one, method, inner)), shown(called(other, method, inner)))
+
+    def test_results_that_are_classes_of_their_own(self):
+        save = function_called("storage", "save")
+        self.assertEqual(list(inspect.signature(save).parameters), ["road"])
+        self.assertEqual(save.__module__, "dialroad.storage")
+        road = class_called("road", "Road")(5)
+        travelled(road)
+        self.assertEqual(save(road=road), save(road))
+        self.assertEqual(len(road.actions()), 4)
+        self.assertEqual(road.redo(), ("run", "ann", [("turn", 1)]))
 
 
 def emptied(value):
@@ -230,6 +298,10 @@ class NewListsTest(unittest.TestCase):
             for part in [result] if isinstance(result, list) else result:
                 part.clear()
 
+        def empty_routes(result):
+            for route in result:
+                route.clear()
+
         def empty_inner(result):
             result[0][2].clear()
             result.append(("turn", 1))
@@ -238,6 +310,10 @@ class NewListsTest(unittest.TestCase):
         self.check("notation", "parse_program", ("repeat 1 [ ]",), lambda result: result[0][2].append(("step", 1)))
         self.check("notation", "parse_program", ("repeat 1 [ step 1 ] step 2",), empty_inner)
         self.check("notation", "parse_program", ("step 1",), empty_all)
+        walks = ([(0, 3), (10, 10)], [5, 12, 6])
+        for change in (empty_all, empty_routes):
+            self.check("walkers", "plan", walks, change)
+        self.check("walkers", "unused", walks, empty_all)
         for one in (EFFECT, ((), 0), ((), -2)):
             self.check("lengths", "shortest_program", (5, one), lambda result: result.append(("step", 1)))
             self.check("lengths", "shortest_program", (5, one), empty_all)
@@ -278,7 +354,7 @@ class KindsOfValuesTest(unittest.TestCase):
             "first_difference": tuple, "extent": tuple, "format_program": str, "parse_program": list, "length": int,
             "shortest_program": list, "length_certificate": tuple, "certifies_length": bool, "dead_end_depth": int,
             "count_effects": int, "conjugator": tuple, "conjugacy_name": tuple, "commute": bool, "root": tuple,
-            "nth_root": tuple,
+            "nth_root": tuple, "least_steps": int, "plan": list, "plan_steps": int, "unused": list,
         }
         for module, name, _, arguments in FUNCTIONS:
             if name in kinds:

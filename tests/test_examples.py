@@ -4,7 +4,7 @@ import unittest
 
 from dialroad.conjugacy import conjugacy_name, conjugator
 from dialroad.effects import apply, compose, inverse, is_effect, order, power
-from dialroad.errors import DivisionByZero, InvalidText, ShiftIsZero, TooLong
+from dialroad.errors import DivisionByZero, InvalidLine, InvalidText, ShiftIsZero, TooLong, UnknownName
 from dialroad.far import extent, first_difference, value_at
 from dialroad.lengths import certifies_length, count_effects, dead_end_depth, length, length_certificate
 from dialroad.lengths import shortest_program
@@ -12,8 +12,12 @@ from dialroad.notation import format_program, parse_program
 from dialroad.polynomials import add, divide, geometric, greatest_divisor, is_polynomial
 from dialroad.polynomials import move, multiply, normalize, scale, subtract
 from dialroad.programs import effect_of, executed, is_program, shift_of
+from dialroad.road import Road
 from dialroad.roots import commute, nth_root, root
+from dialroad.rules import Rules
 from dialroad.sets import Effects
+from dialroad.storage import load, save
+from dialroad.walkers import least_steps, plan, plan_steps, unused
 
 
 class PolynomialExamplesTest(unittest.TestCase):
@@ -192,6 +196,74 @@ class SetExamplesTest(unittest.TestCase):
 
     def test_is_within(self):
         self.assertIs(Effects(2, [((), 4)]).is_within(Effects(2, [((), 2)])), True)
+
+
+class RuleExamplesTest(unittest.TestCase):
+    def test_same(self):
+        self.assertIs(Rules(2, [((), 2)]).same((((0, 1),), 1), (((2, 1),), 3)), True)
+
+    def test_classes(self):
+        self.assertEqual(Rules(2, [((), 2)]).classes(), 8)
+
+    def test_checks(self):
+        self.assertIs(Rules(2, [((), 2)]).checks((((0, 1), (2, 1)), 4), ([2], [((0, 1),)], [()])), True)
+
+
+class WalkerExamplesTest(unittest.TestCase):
+    TASKS, MARKED = [(0, 3), (10, 10)], [5, 12, 6]
+
+    def test_least_steps(self):
+        self.assertEqual(least_steps(self.TASKS, self.MARKED), 13)
+
+    def test_plan(self):
+        self.assertEqual(plan_steps(self.TASKS, self.MARKED, plan(self.TASKS, self.MARKED)), 13)
+
+    def test_plan_steps(self):
+        self.assertEqual(plan_steps([(0, 1)], [2], [[0, 2, 1]]), 3)
+
+    def test_unused(self):
+        self.assertEqual(unused(self.TASKS, self.MARKED), [(6, 10)])
+
+
+class RoadExamplesTest(unittest.TestCase):
+    def test_dial_and_places(self):
+        road = Road(5)
+        road.enter("ann", 2)
+        road.run("ann", [("turn", 3), ("step", 1)])
+        self.assertEqual((road.dial(2), road.dial(2, 1), road.places()), (3, 0, {"ann": 3}))
+
+    def test_an_unknown_name(self):
+        with self.assertRaises(UnknownName) as caught:
+            Road(5).run("ann", None)
+        self.assertEqual(caught.exception.value, "ann")
+
+    def test_undo_and_redo(self):
+        road = Road(5)
+        road.enter("ann", 2)
+        road.run("ann", [("turn", 3)])
+        action = ("run", "ann", [("turn", 3)])
+        self.assertEqual((road.undo(), road.redo(), road.undo(), road.dial(2)), (action, action, action, 0))
+
+    def test_same_dials(self):
+        road = Road(2)
+        road.enter("bob", 0)
+        road.run("bob", [("turn", 1)])
+        road.run("bob", [("turn", 1)])
+        self.assertIs(road.same_dials(1, 3), True)
+
+
+class StorageExamplesTest(unittest.TestCase):
+    def test_save(self):
+        road = Road(5)
+        road.enter("ann", 2)
+        road.run("ann", [("turn", 3), ("step", 1)])
+        self.assertEqual(save(road), "prime 5\nenter ann 2\nrun ann turn 3 step 1")
+
+    def test_load(self):
+        with self.assertRaises(InvalidLine) as caught:
+            load("prime 4")
+        self.assertEqual(caught.exception.position, 0)
+        self.assertEqual(load("prime 5\nenter ann 2").places(), {"ann": 2})
 
 
 if __name__ == "__main__":
