@@ -5,8 +5,8 @@ from dialroad.effects import compose, power
 from dialroad.integers import common_divisor, is_whole
 from dialroad.polynomials import is_polynomial, sum_of_products
 
-GREATEST_POWER = 200
-GREATEST_COUNT = 100
+FARTHEST_POWER = 200
+FARTHEST_COUNT = 100
 
 
 def stride_of(effects):
@@ -64,7 +64,7 @@ def is_near(value, farthest):
 
 def are_powers(value, size):
     """Whether any value is a list of this many powers."""
-    return is_list_of(size, value) and all([is_near(part, GREATEST_POWER) for part in value])
+    return is_list_of(size, value) and all([is_near(part, FARTHEST_POWER) for part in value])
 
 
 def is_factor(prime, stride, value):
@@ -85,7 +85,7 @@ def is_recipe(prime, effects, effect, value):
         return False
     word, powers, count, factors = value
     stride = stride_of(effects)
-    if not are_powers(powers, len(effects)) or not is_near(count, GREATEST_COUNT):
+    if not are_powers(powers, len(effects)) or not is_near(count, FARTHEST_COUNT):
         return False
     if not are_factors(prime, stride, factors, len(effects)):
         return False

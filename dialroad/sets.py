@@ -16,7 +16,7 @@ class Effects:
         self.given = list(generators)
         self.pace = stride_of(self.given)
         self.powers = fewest_powers([shift for polynomial, shift in self.given], self.pace)
-        # All members are powers of this one, followed by members with shift 0.
+        # Each member is one with shift 0, followed by a power of this one.
         self.step = composed(prime, self.given, self.powers)
         self.still = Span(prime, self.pace, without_shifts(prime, self.given, self.step))
         self.rows = self.still.basis()

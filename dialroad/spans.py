@@ -4,7 +4,7 @@ Each given polynomial gets a label of its own behind all classes, so that whatev
 written down by their labels. A row is the list of the coefficients of such a polynomial from exponent 0 on.
 """
 
-from dialroad.bases import part_of, rest_of
+from dialroad.bases import class_of, part_of, rest_of
 from dialroad.integers import reciprocal
 from dialroad.polynomials import from_sums, move, normalize, scale
 
@@ -76,8 +76,7 @@ def row_of(polynomial, size):
 def basis_polynomial(prime, row, size):
     """The polynomial of a row, with the coefficient 1 and the exponents where a basis polynomial has them."""
     polynomial = from_sums(prime, dict(list(enumerate(row))))
-    place = min([exponent % size for exponent, coefficient in polynomial])
-    part = part_of(polynomial, size, place)
+    part = part_of(polynomial, size, class_of(polynomial, size))
     return scale(prime, move(polynomial, -part[0][0]), reciprocal(prime, part[-1][1]))
 
 

@@ -6,6 +6,7 @@ from random import Random
 
 from dialroad.polynomials import greatest_divisor
 from dialroad.rules import Rules
+from dialroad.sets import Effects
 from tests.plain import IDENTITY, chained, followed, product, repeated, some_list, some_member, some_polynomial
 from tests.plain import summed, times, undone
 from tests.samples import FAR, OTHER_VALUES, PRIMES, all_polynomials
@@ -192,6 +193,36 @@ class ClassesTest(unittest.TestCase):
             self.assertEqual(Rules(prime, [(((0, 1),), 1), STEP]).classes(), 1)
             # Each step turns a dial too.
             self.assertEqual(Rules(prime, [(((0, 1),), 1)]).classes(), prime)
+
+
+def normal_set(prime, rules):
+    """The set of all compositions of conjugates of rules: rules and conjugates are added until no step leads out."""
+    some = Effects(prime, rules)
+    while True:
+        members = [(row, 0) for row in some.basis()] + [some.translation()]
+        conjugates = [chained(prime, [undone(prime, x), one, x]) for one in members
+                      for x in (STEP, undone(prime, STEP), TURN)]
+        missing = [one for one in conjugates if not some.contains(one)]
+        if not missing:
+            return some
+        some = Effects(prime, members + missing[:1])
+
+
+class DefinitionTest(unittest.TestCase):
+    def test_against_the_set_of_all_compositions_of_conjugates(self):
+        found = set()
+        for prime in (2, 3, 5):
+            for seed in range(60):
+                rules = some_list(seed, prime, 3, 3)
+                # Only with a shift is this set composed of finitely many effects.
+                if any(shift for _, shift in rules):
+                    some, closed = Rules(prime, rules), normal_set(prime, rules)
+                    self.assertEqual(some.classes(), closed.cosets(), (prime, rules))
+                    for more in range(6):
+                        one = some_member(6 * seed + more, prime, [STEP, TURN, (((1, 1),), 1)])
+                        self.assertIs(some.same(one, IDENTITY), closed.contains(one), (prime, rules, one))
+                        found.add(closed.contains(one))
+        self.assertEqual(found, {True, False})
 
 
 class CertificatesTest(unittest.TestCase):
