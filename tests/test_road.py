@@ -430,6 +430,15 @@ class SameDialsTest(unittest.TestCase):
         road.run("ann", [("turn", 1)])
         self.assertIs(road.same_dials(0, None), True)
 
+    def test_the_one_dial_is_far_from_where_any_round_begins(self):
+        for extra, expected in ((0, True), (1, False)):
+            single = [("repeat", 2 * 10 ** 29 + extra, [("turn", 1), ("step", 1)]), ("step", -2 * 10 ** 29 - extra)]
+            double = [("repeat", 10 ** 29, [("turn", -1), ("step", 1), ("turn", -1), ("step", 1)])]
+            road = self.road(2, single, double)
+            self.assertIs(road.same_dials(1, 3), expected)
+            self.assertEqual(road.dial(2 * 10 ** 29), extra)
+            self.assertEqual(road.dial(2 * 10 ** 29 - 1), 0)
+
     def test_nested_rounds(self):
         one = repeats(10 ** 20, 10 ** 10, body=[("turn", 1), ("step", 1)])
         other = [("repeat", 10 ** 30, [("step", -1), ("turn", -1)])]
