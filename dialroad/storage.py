@@ -31,18 +31,15 @@ def new_road(line):
 
 
 def read_line(road, position, line):
-    """Performs the action of a line; raises InvalidLine with its position if it cannot stand there."""
+    """Performs the action of a line; raises an error, whichever applies, if the line cannot stand there."""
     tokens = line.split(" ")
-    try:
-        if tokens[0] == "enter" and len(tokens) == 3:
-            road.enter(tokens[1], count_of(tokens[2]))
-        # A space behind the name is followed by a program that is not empty.
-        elif tokens[0] == "run" and len(tokens) > 1 and tokens[2:] != [""]:
-            road.run(tokens[1], parse_program(" ".join(tokens[2:])))
-        else:
-            raise InvalidLine(position)
-    except (InvalidName, DuplicateName, InvalidPlace, UnknownName, InvalidText):
-        raise InvalidLine(position) from None
+    if tokens[0] == "enter" and len(tokens) == 3:
+        road.enter(tokens[1], count_of(tokens[2]))
+    # A space behind the name is followed by a program that is not empty.
+    elif tokens[0] == "run" and len(tokens) > 1 and tokens[2:] != [""]:
+        road.run(tokens[1], parse_program(" ".join(tokens[2:])))
+    else:
+        raise InvalidLine(position)
 
 
 def load(text):
@@ -56,5 +53,8 @@ def load(text):
         runs += 1 if line.startswith("run ") else 0
         if runs > MOST_RUNS:
             raise InvalidLine(position)
-        read_line(road, position, line)
+        try:
+            read_line(road, position, line)
+        except (InvalidName, DuplicateName, InvalidPlace, UnknownName, InvalidText):
+            raise InvalidLine(position) from None
     return road
